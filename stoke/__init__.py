@@ -1,0 +1,1 @@
+"""Stokehold: rooms kept warm for ever, or not."""
