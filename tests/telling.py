@@ -1,4 +1,8 @@
-"""What the tests of holds share: a hold's whole telling, and holds that are filled in."""
+"""What the tests share: a hold's whole telling, holds and states made by a seed, and points 11 to 19 reckoned
+once more, as plainly as can be and by Python's own fractions, to hold the program's answers against."""
+
+from fractions import Fraction
+from itertools import product
 
 from stoke.holds import Hold
 
@@ -38,3 +42,188 @@ def filled_hold():
     hold.put_stove(0, (7, 2), 4, 2, 1)
     hold.put_stove(2, (0, 1))
     return hold
+
+
+def pair(exact):
+    return (exact.numerator, exact.denominator)
+
+
+def exact(one):
+    return Fraction(*one)
+
+
+def some_exact(source, low, high, figures=2):
+    bottom = source.randint(1, 10 ** figures - 1)
+    return Fraction(source.randint(low * bottom, high * bottom), bottom)
+
+
+def some_marks(source, bands, figures, ends):
+    marks = {Fraction(end) for end in ends}
+    while len(marks) < bands + 1:
+        marks.add(some_exact(source, -11, 11, figures))
+    return [pair(mark) for mark in sorted(marks)]
+
+
+def some_air(source, hold, room, figures, weather):
+    rest = Fraction(1)
+    for other in range(hold.many()):
+        if other != room and source.random() < 0.6:
+            share = rest * some_exact(source, 0, 1, figures) / 2
+            hold.put_flow(room, other, pair(share))
+            rest -= share
+    if source.random() < 0.7:
+        low, high = sorted([some_exact(source, *weather, figures), some_exact(source, *weather, figures)])
+        share = rest if source.random() < 0.1 else rest * some_exact(source, 0, 1, figures)
+        hold.put_sky(room, pair(share), pair(low), pair(high))
+
+
+# In a mild hold most orders are safe: all rooms have the same bounds, and the weather is hardly beyond them.
+def some_hold(source, most_rooms=4, most_bands=6, figures=1, mild=False):
+    hold = Hold(most=source.choice((0, 1, 2, 3, 4, 4)), cap=source.randint(0, 12), load=source.randint(0, 5))
+    together = 1
+    for _ in range(source.randint(1, most_rooms)):
+        bands = min(source.randint(1, most_bands), 400 // together)
+        together *= bands
+        hold.put_room(some_marks(source, bands, max(figures, 2), (-12, 12) if mild else ()))
+    for room in range(hold.many()):
+        some_air(source, hold, room, figures, (-13, 12) if mild else (-20, 20))
+        if source.random() < 0.7:
+            heat = pair(some_exact(source, 0, 3 if mild else 9, figures))
+            hold.put_stove(room, heat, source.randint(0, 4), source.randint(0, 3), source.randint(0, 3))
+    return hold
+
+
+def some_state(source, hold):
+    rooms = range(hold.many())
+    stoves = [room for room in rooms if hold.stove(room) is not None]
+    burning = source.sample(stoves, source.randint(0, min(hold.most, len(stoves))))
+    waits = [0] * hold.many()
+    failed = [0] * hold.many()
+    for room in stoves:
+        if room not in burning and source.random() < 0.4:
+            failed[room] = source.randint(0, hold.stove(room)[3])
+        if failed[room] == 0 and source.random() < 0.6:
+            waits[room] = source.randint(0, hold.stove(room)[2])
+    bands = tuple(source.randrange(len(hold.marks(room)) - 1) for room in rooms)
+    return (bands, plain_bits(burning), tuple(waits), tuple(failed), source.randint(0, hold.cap))
+
+
+def plain_bits(rooms):
+    return sum(2 ** room for room in set(rooms))
+
+
+def plain_rooms(bits):
+    return [room for room in range(64) if bits // 2 ** room % 2 == 1]
+
+
+def plain_parts(bits):
+    return [part for part in range(bits + 1) if set(plain_rooms(part)) <= set(plain_rooms(bits))]
+
+
+def plain_is_state(hold, state):
+    bands, burning, waits, failed, heap = state
+    if not len(bands) == len(waits) == len(failed) == hold.many() or not 0 <= heap <= hold.cap:
+        return False
+    if len(plain_rooms(burning)) > hold.most or any(room >= hold.many() for room in plain_rooms(burning)):
+        return False
+    for room in range(hold.many()):
+        burns = room in plain_rooms(burning)
+        stay, fails = (hold.stove(room) or (0, 0, 0, 0))[2:]
+        if burns and hold.stove(room) is None:
+            return False
+        if bands[room] not in range(len(hold.marks(room)) - 1):
+            return False
+        if waits[room] not in range(stay + 1) or failed[room] not in range(fails + 1):
+            return False
+        if failed[room] > 0 and (burns or waits[room] > 0):
+            return False
+    return True
+
+
+def plain_wood(hold, rooms):
+    return sum(hold.stove(room)[1] for room in rooms if hold.stove(room) is not None)
+
+
+def plain_orders(hold, state):
+    _, burning, waits, _, heap = state
+    found = []
+    for order in range(2 ** hold.many()):
+        rooms = plain_rooms(order)
+        kept = all(waits[room] == 0 or (room in rooms) == (room in plain_rooms(burning)) for room in range(hold.many()))
+        stoves = all(hold.stove(room) is not None for room in rooms)
+        if kept and stoves and len(rooms) <= hold.most and plain_wood(hold, rooms) <= heap:
+            found.append(order)
+    return found
+
+
+def plain_heeded(hold, state, wish):
+    _, burning, waits, _, heap = state
+    order = [room for room in plain_rooms(burning) if waits[room] > 0]
+    if plain_wood(hold, order) > heap:
+        return None
+    for room in range(hold.many()):
+        if room in plain_rooms(wish) and waits[room] == 0 and hold.stove(room) is not None:
+            if len(order) < hold.most and plain_wood(hold, order + [room]) <= heap:
+                order.append(room)
+    return plain_bits(order)
+
+
+def plain_may_fail(hold, state, order):
+    lit = [room for room in plain_rooms(order) if room not in plain_rooms(state[1])]
+    return plain_bits([room for room in lit if state[3][room] < hold.stove(room)[3]])
+
+
+def plain_behind(hold, state, order, out):
+    before = plain_rooms(state[1])
+    burning = [room for room in plain_rooms(order) if room not in plain_rooms(out)]
+    waits = []
+    failed = []
+    for room in range(hold.many()):
+        changed = (room in before) != (room in burning)
+        waits.append(hold.stove(room)[2] if changed else max(state[2][room] - 1, 0))
+        if room in plain_rooms(out):
+            failed.append(state[3][room] + 1)
+        else:
+            failed.append(0 if room in burning else state[3][room])
+    heap = min(state[4] - plain_wood(hold, burning) + hold.load, hold.cap)
+    return (plain_bits(burning), tuple(waits), tuple(failed), heap)
+
+
+def plain_warmth(hold, room, airs, weather, fired):
+    warmth = exact(hold.sky(room)[0]) * weather
+    for of in range(hold.many()):
+        warmth += exact(hold.share(room, of)) * airs[of]
+    return warmth + exact(hold.stove(room)[0]) if fired else warmth
+
+
+# The least and the greatest warmth of all corners: each air, and the weather, at either of its ends.
+def plain_span(hold, room, bands, fired):
+    ends = [(exact(hold.marks(of)[band]), exact(hold.marks(of)[band + 1])) for of, band in enumerate(bands)]
+    ends.append((exact(hold.sky(room)[1]), exact(hold.sky(room)[2])))
+    warmths = [plain_warmth(hold, room, corner[:-1], corner[-1], fired) for corner in product(*ends)]
+    return (min(warmths), max(warmths))
+
+
+def plain_touched(hold, room, least, greatest):
+    marks = [exact(mark) for mark in hold.marks(room)]
+    return [band for band in range(len(marks) - 1) if max(least, marks[band]) <= min(greatest, marks[band + 1])]
+
+
+def plain_is_within(hold, room, least, greatest):
+    return exact(hold.marks(room)[0]) <= least and greatest <= exact(hold.marks(room)[-1])
+
+
+def plain_spans(hold, state, burning):
+    return [plain_span(hold, room, state[0], room in plain_rooms(burning)) for room in range(hold.many())]
+
+
+def plain_outcomes(hold, state, order):
+    found = set()
+    for out in plain_parts(plain_may_fail(hold, state, order)):
+        stoves = plain_behind(hold, state, order, out)
+        spans = plain_spans(hold, state, stoves[0])
+        if not all(plain_is_within(hold, room, *span) for room, span in enumerate(spans)):
+            return None
+        rows = [plain_touched(hold, room, *span) for room, span in enumerate(spans)]
+        found.update((bands,) + stoves for bands in product(*rows))
+    return found
