@@ -1,10 +1,13 @@
-"""What the tests share: a hold's whole telling, holds and states made by a seed, and points 11 to 19 reckoned
-once more, as plainly as can be and by Python's own fractions, to hold the program's answers against."""
+"""What the tests share: a hold's whole telling; holds, states and keepers made by a seed; and points 11 to 19 and 27
+to 29 reckoned once more, as plainly as can be and by Python's own fractions, to hold the program's answers against."""
 
 from fractions import Fraction
 from itertools import product
 
+from stoke.conditions import both_of, burns, colder, one_of, rested, stocked, unlike
+from stoke.errors import TooMany
 from stoke.holds import Hold
+from stoke.keepers import Below, Clock, Either, Keeper, Pair, Ruled, Sills, Table, Together
 
 # Things of plain kinds that are no whole numbers, for bounds that refuse all but whole numbers.
 NO_WHOLE = (True, False, "1", "", "a", None, [], [1], (), (1,), (1, 1))
@@ -106,6 +109,49 @@ def some_state(source, hold):
             waits[room] = source.randint(0, hold.stove(room)[2])
     bands = tuple(source.randrange(len(hold.marks(room)) - 1) for room in rooms)
     return (bands, plain_bits(burning), tuple(waits), tuple(failed), source.randint(0, hold.cap))
+
+
+def some_condition(source, hold, depth=2):
+    room = source.randrange(hold.many())
+    if depth == 0:
+        choices = (colder(room, source.randint(0, 5)), burns(room), rested(room), stocked(source.randint(0, 9)))
+        return source.choice(choices)
+    one = some_condition(source, hold, depth - 1)
+    other = some_condition(source, hold, depth - 1)
+    return source.choice((both_of(one, other), one_of(one, other), unlike(one)))
+
+
+def simple_keeper(source, hold):
+    rooms = range(hold.many())
+    bits = range(2 ** hold.many())
+    kind = source.randrange(5)
+    if kind == 0:
+        return Clock([source.choice(bits) for _ in range(source.randint(1, 4))])
+    if kind == 1:
+        return Ruled([(source.choice(rooms), some_condition(source, hold)) for _ in range(source.randint(0, 5))])
+    if kind == 2:
+        return Table({some_state(source, hold): source.choice(bits) for _ in range(20)})
+    if kind == 3:
+        sills = [sorted((source.randint(-1, 4), source.randint(0, 5))) for _ in rooms]
+        return Sills({room: tuple(sills[room]) for room in rooms if source.random() < 0.8})
+    return Keeper()
+
+
+def some_keeper(source, hold, depth=2):
+    if depth == 0 or source.random() < 0.2:
+        return simple_keeper(source, hold)
+    one = some_keeper(source, hold, depth - 1)
+    other = some_keeper(source, hold, depth - 1)
+    room, band = source.randrange(hold.many()), source.randint(-1, 6)
+    rows = {some_state(source, hold): source.randrange(16) for _ in range(20)}
+    deeds = (
+        lambda: Pair(one, other), lambda: Either(one, other), lambda: Together(one, other),
+        lambda: Below(room, band, one, other), lambda: Table(rows, one),
+    )
+    try:
+        return source.choice(deeds)()
+    except TooMany:
+        return one
 
 
 def plain_bits(rooms):
@@ -227,3 +273,39 @@ def plain_outcomes(hold, state, order):
         rows = [plain_touched(hold, room, *span) for room, span in enumerate(spans)]
         found.update((bands,) + stoves for bands in product(*rows))
     return found
+
+
+# A dict from each post of the course to its order and the posts behind it; None where there are more than a limit.
+def plain_course(hold, keeper, posts, limit):
+    course = {}
+    left = list(posts)
+    while left:
+        post = left.pop()
+        if post not in course:
+            state, mind = post
+            order = plain_heeded(hold, state, keeper.wish(mind, state))
+            states = None if order is None else plain_outcomes(hold, state, order)
+            behind = None if states is None else {(each, keeper.after(mind, state)) for each in states}
+            course[post] = (order, behind)
+            left.extend(behind or ())
+            if len(course) > limit:
+                return None
+    return course
+
+
+# Point 29 by its own words, turn for turn: a post is ill in so many turns where none sooner is known.
+def plain_fates(course):
+    fates = {post: None for post in course}
+    for turns in range(len(course) + 2):
+        for post, (order, behind) in course.items():
+            if fates[post] is None and turns == plain_fate(order, behind, fates, turns):
+                fates[post] = turns
+    return fates
+
+
+def plain_fate(order, behind, fates, turns):
+    if order is None:
+        return 0
+    if behind is None:
+        return 1
+    return turns if any(fates[post] == turns - 1 for post in behind) else None
