@@ -1,11 +1,12 @@
-"""What the tests share: a hold's whole telling; holds, states and keepers made by a seed; and points 11 to 19 and 27
-to 29 reckoned once more, as plainly as can be and by Python's own fractions, to hold the program's answers against."""
+"""What the tests share: a hold's whole telling; holds, states, keepers and turns made by a seed; and points 11 to 19,
+27 to 29, 31, 32 and 36 reckoned once more, as plainly as can be and by Python's own fractions, to hold the program's
+answers against."""
 
 from fractions import Fraction
 from itertools import product
 
 from stoke.conditions import both_of, burns, colder, one_of, rested, stocked, unlike
-from stoke.errors import TooMany
+from stoke.errors import StokeError, TooMany
 from stoke.holds import Hold
 from stoke.keepers import Below, Clock, Either, Keeper, Pair, Ruled, Sills, Table, Together
 
@@ -47,6 +48,31 @@ def filled_hold():
     return hold
 
 
+# A room of six bands that loses, in a turn without its stove, up to ten and more; the stove holds it where it is.
+def fading_hold(cap=0, load=0, wood=0, **stove):
+    hold = Hold(cap=cap, load=load)
+    hold.put_room(whole_marks(0, 10, 20, 30, 40, 50, 60))
+    hold.put_sky(0, (1, 6), (-60, 1), (-60, 1))
+    hold.put_stove(0, (20, 1), wood=wood, **stove)
+    return hold
+
+
+# Rooms of so many bands, each of which may come from each of them to each.
+def wide_rooms(bands, **bounds):
+    hold = Hold(**bounds)
+    for many in bands:
+        room = hold.put_room(whole_marks(*range(many + 1)))
+        hold.put_sky(room, (1, 1), (0, 1), (many, 1))
+    return hold
+
+
+def refused(test, kind, deed):
+    with test.assertRaises(kind) as caught:
+        deed()
+    test.assertIs(type(caught.exception), kind)
+    test.assertIsInstance(caught.exception, StokeError)
+
+
 def pair(exact):
     return (exact.numerator, exact.denominator)
 
@@ -80,20 +106,32 @@ def some_air(source, hold, room, figures, weather):
         hold.put_sky(room, pair(share), pair(low), pair(high))
 
 
-# In a mild hold most orders are safe: all rooms have the same bounds, and the weather is hardly beyond them.
-def some_hold(source, most_rooms=4, most_bands=6, figures=1, mild=False):
-    hold = Hold(most=source.choice((0, 1, 2, 3, 4, 4)), cap=source.randint(0, 12), load=source.randint(0, 5))
+# In a mild hold most orders are safe: all rooms have the same bounds, and the weather is hardly beyond them. Where each
+# of the last four is small, not many states are met.
+def some_hold(
+    source, most_rooms=4, most_bands=6, figures=1, mild=False, low=-13,
+    most_cap=12, most_wood=4, most_stay=3, most_fails=3,
+):
+    hold = Hold(most=source.choice((0, 1, 2, 3, 4, 4)), cap=source.randint(0, most_cap), load=source.randint(0, 5))
     together = 1
     for _ in range(source.randint(1, most_rooms)):
         bands = min(source.randint(1, most_bands), 400 // together)
         together *= bands
         hold.put_room(some_marks(source, bands, max(figures, 2), (-12, 12) if mild else ()))
     for room in range(hold.many()):
-        some_air(source, hold, room, figures, (-13, 12) if mild else (-20, 20))
+        some_air(source, hold, room, figures, (low, 12) if mild else (-20, 20))
         if source.random() < 0.7:
             heat = pair(some_exact(source, 0, 3 if mild else 9, figures))
-            hold.put_stove(room, heat, source.randint(0, 4), source.randint(0, 3), source.randint(0, 3))
+            wood, stay, fails = [source.randint(0, most) for most in (most_wood, most_stay, most_fails)]
+            hold.put_stove(room, heat, wood, stay, fails)
     return hold
+
+
+def small_hold(source, most_rooms=4, most_bands=3):
+    low = source.choice((-13, -20, -30))
+    return some_hold(
+        source, most_rooms, most_bands, mild=True, low=low, most_cap=3, most_wood=2, most_stay=1, most_fails=1,
+    )
 
 
 def some_state(source, hold):
@@ -152,6 +190,25 @@ def some_keeper(source, hold, depth=2):
         return source.choice(deeds)()
     except TooMany:
         return one
+
+
+# What air, weather, gauges and failing stoves may do in a turn: out, a list of warmths, and a list of bands, or None
+# where some room is out of its bounds.
+def some_turn(source, hold, state, order):
+    out = source.choice(plain_parts(plain_may_fail(hold, state, order)))
+    warmths = [some_warmth(source, hold, state, room, room in plain_rooms(order & ~out)) for room in range(hold.many())]
+    rows = [plain_touched(hold, room, warmth, warmth) for room, warmth in enumerate(warmths)]
+    bands = [source.choice(row) for row in rows] if all(rows) else None
+    return (out, [pair(warmth) for warmth in warmths], bands)
+
+
+def some_warmth(source, hold, state, room, fired):
+    ends = [hold.marks(of)[band:band + 2] for of, band in enumerate(state[0])] + [hold.sky(room)[1:]]
+    drawn = []
+    for low, high in ends:
+        part = source.choice((Fraction(0), Fraction(1), Fraction(1, 2), some_exact(source, 0, 1)))
+        drawn.append(exact(low) + (exact(high) - exact(low)) * part)
+    return plain_warmth(hold, room, drawn[:-1], drawn[-1], fired)
 
 
 def plain_bits(rooms):
@@ -259,15 +316,21 @@ def plain_is_within(hold, room, least, greatest):
     return exact(hold.marks(room)[0]) <= least and greatest <= exact(hold.marks(room)[-1])
 
 
-def plain_spans(hold, state, burning):
-    return [plain_span(hold, room, state[0], room in plain_rooms(burning)) for room in range(hold.many())]
+# What is known already of one hold may be handed in, and is added to.
+def plain_spans(hold, state, burning, known=None):
+    known = {} if known is None else known
+    keys = [(room, state[0], room in plain_rooms(burning)) for room in range(hold.many())]
+    for key in keys:
+        if key not in known:
+            known[key] = plain_span(hold, *key)
+    return [known[key] for key in keys]
 
 
-def plain_outcomes(hold, state, order):
+def plain_outcomes(hold, state, order, known=None):
     found = set()
     for out in plain_parts(plain_may_fail(hold, state, order)):
         stoves = plain_behind(hold, state, order, out)
-        spans = plain_spans(hold, state, stoves[0])
+        spans = plain_spans(hold, state, stoves[0], known)
         if not all(plain_is_within(hold, room, *span) for room, span in enumerate(spans)):
             return None
         rows = [plain_touched(hold, room, *span) for room, span in enumerate(spans)]
@@ -278,13 +341,14 @@ def plain_outcomes(hold, state, order):
 # A dict from each post of the course to its order and the posts behind it; None where there are more than a limit.
 def plain_course(hold, keeper, posts, limit):
     course = {}
+    known = {}
     left = list(posts)
     while left:
         post = left.pop()
         if post not in course:
             state, mind = post
             order = plain_heeded(hold, state, keeper.wish(mind, state))
-            states = None if order is None else plain_outcomes(hold, state, order)
+            states = None if order is None else plain_outcomes(hold, state, order, known)
             behind = None if states is None else {(each, keeper.after(mind, state)) for each in states}
             course[post] = (order, behind)
             left.extend(behind or ())
@@ -309,3 +373,56 @@ def plain_fate(order, behind, fates, turns):
     if behind is None:
         return 1
     return turns if any(fates[post] == turns - 1 for post in behind) else None
+
+
+# A dict from each state met to a dict from the orders that it allows to what may come of each; None where there are
+# more states than a limit.
+def plain_game(hold, states, limit):
+    game = {}
+    known = {}
+    left = list(states)
+    while left:
+        state = left.pop()
+        if state not in game:
+            game[state] = {order: plain_outcomes(hold, state, order, known) for order in plain_orders(hold, state)}
+            for behind in game[state].values():
+                left.extend(behind or ())
+            if len(game) > limit:
+                return None
+    return game
+
+
+# How many turns an order lasts, as far as ranks are known: None where all states that may come of it have none.
+def plain_lasting(behind, ranks):
+    if behind is None:
+        return 0
+    return min((ranks[state] for state in behind if ranks[state] is not None), default=None)
+
+
+# Point 32 by its own words, turn for turn, until no state is ill in just so many turns.
+def plain_ranks(game):
+    ranks = {state: 0 if not orders else None for state, orders in game.items()}
+    turns = 1
+    while True:
+        ill = []
+        for state, orders in game.items():
+            lasting = [plain_lasting(behind, ranks) for behind in orders.values()]
+            if ranks[state] is None and None not in lasting:
+                ill.append(state)
+        if not ill:
+            return ranks
+        for state in ill:
+            ranks[state] = turns
+        turns += 1
+
+
+# The greatest rate of all rounds, by Karp's theorem: rows tell which posts stand behind each, woods what each takes.
+def plain_rate(rows, woods):
+    many = len(rows)
+    most = [[0] * many]
+    for _ in range(many):
+        most.append([max(woods[behind] + most[-1][behind] for behind in row) for row in rows])
+    return max(
+        min(Fraction(most[many][post] - most[turns][post], many - turns) for turns in range(many))
+        for post in range(many)
+    )
