@@ -134,6 +134,37 @@ def small_hold(source, most_rooms=4, most_bands=3):
     )
 
 
+# Rooms that hang together in the told groups and no more, numbered as they come, in a hold of bounds that tell nothing
+# but what is handed in.
+def parted_hold(source, groups, most_bands=3, most_wood=0, **bounds):
+    hold = Hold(**bounds)
+    for _ in range(sum(len(group) for group in groups)):
+        hold.put_room(some_marks(source, source.randint(1, most_bands), 2, (-12, 12)))
+    for group in groups:
+        for before, room in zip(group, group[1:]):
+            into, of = source.sample((before, room), 2)
+            hold.put_flow(into, of, pair(Fraction(1, source.randint(4, 9))))
+        for room in group:
+            rest = exact(hold.share(room, room))
+            low, high = sorted([some_exact(source, -22, 8), some_exact(source, -22, 8)])
+            hold.put_sky(room, pair(rest * some_exact(source, 0, 1, 1)), pair(low), pair(high))
+            if source.random() < 0.8:
+                heat = pair(some_exact(source, 0, 6, 1))
+                hold.put_stove(room, heat, source.randint(0, most_wood), source.randint(0, 1), source.randint(0, 1))
+    return hold
+
+
+def some_groups(source, rooms):
+    drawn = list(range(rooms))
+    source.shuffle(drawn)
+    groups = []
+    while drawn:
+        many = source.randint(1, len(drawn))
+        groups.append(drawn[:many])
+        drawn = drawn[many:]
+    return groups
+
+
 def some_state(source, hold):
     rooms = range(hold.many())
     stoves = [room for room in rooms if hold.stove(room) is not None]
