@@ -157,12 +157,8 @@ def parted_hold(source, groups, most_bands=3, most_wood=0, **bounds):
 def some_groups(source, rooms):
     drawn = list(range(rooms))
     source.shuffle(drawn)
-    groups = []
-    while drawn:
-        many = source.randint(1, len(drawn))
-        groups.append(drawn[:many])
-        drawn = drawn[many:]
-    return groups
+    cuts = sorted(source.sample(range(1, rooms), source.randrange(rooms)))
+    return [drawn[start:end] for start, end in zip([0] + cuts, cuts + [rooms])]
 
 
 def some_state(source, hold):

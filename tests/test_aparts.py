@@ -220,19 +220,18 @@ class CourseTest(unittest.TestCase):
     def test_made_keepers_apart(self):
         source = random.Random(2)
         seen = {True: 0, False: 0}
-        while min(seen.values()) < 25:
+        while min(seen.values()) < 40:
             hold = parted_hold(source, some_groups(source, source.randint(1, 4)), most_bands=2)
             state = some_state(source, hold)
+            try:
+                rank = ranks_of(hold, [state], 500)[state]
+            except TooMany:
+                continue
             made = []
             for rooms in parts_of(hold):
                 made.append((rooms, made_keeper(only_rooms(hold, rooms), [portion(state, rooms)])))
-            keeper = Apart(made)
-            try:
-                rank = ranks_of(hold, [state])[state]
-                fates = fates_of(hold, keeper, [(state, 0)])
-                whole = fates_of(hold, made_keeper(hold, [state]), [(state, 0)])
-            except TooMany:
-                continue
+            fates = fates_of(hold, Apart(made), [(state, 0)])
+            whole = fates_of(hold, made_keeper(hold, [state]), [(state, 0)])
             self.assertEqual(fates[(state, 0)], rank, told(hold))
             self.assertEqual(whole[(state, 0)], rank)
             self.assertEqual(rank_apart(hold, state), rank)

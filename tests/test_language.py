@@ -226,6 +226,46 @@ class FormTest(unittest.TestCase):
                 self.assertLessEqual(len(node.generators[0].ifs), 1, (name, node.lineno))
 
 
+class WalkedTest(unittest.TestCase):
+    WALKED = ("zip", "enumerate", "reversed", "range")
+    METHODS = ("items", "keys", "values")
+    WALKERS = ("list", "tuple", "dict", "sorted", "sum", "any", "all", "enumerate", "zip", "min", "max")
+
+    def is_walked(self, node):
+        if not isinstance(node, ast.Call):
+            return False
+        if isinstance(node.func, ast.Attribute):
+            return node.func.attr in self.METHODS
+        return isinstance(node.func, ast.Name) and node.func.id in self.WALKED
+
+    def test_l23_walked_at_once(self):
+        for path in sources():
+            tree = tree_of(path)
+            walked = [node.iter for node in ast.walk(tree) if isinstance(node, (ast.For, ast.comprehension))]
+            for node in ast.walk(tree):
+                if isinstance(node, ast.Call) and isinstance(node.func, ast.Name) and node.func.id in self.WALKERS:
+                    walked.extend(node.args[:1])
+            for node in ast.walk(tree):
+                if self.is_walked(node):
+                    self.assertIn(node, walked, (path, node.lineno))
+
+    def test_l13_l22_l24(self):
+        keywords = {"sorted": {"key", "reverse"}, "min": {"key", "default"}, "max": {"key", "default"}}
+        keywords.update({"sum": {"start"}, "enumerate": {"start"}, "zip": {"strict"}})
+        lambdas = []
+        for name, node in nodes(ast.Call, ast.Set, ast.Lambda):
+            self.assertNotIsInstance(node, ast.Set, (name, node.lineno))
+            if isinstance(node, ast.Lambda):
+                lambdas.append((name, node.lineno))
+            elif isinstance(node.func, ast.Attribute) and node.func.attr in OWN_METHODS:
+                self.assertEqual(node.keywords, [], (name, node.lineno))
+            elif isinstance(node.func, ast.Name) and node.func.id in OWN_NAMES:
+                self.assertNotIn(node.func.id, ("set", "frozenset"), (name, node.lineno))
+                found = {keyword.arg for keyword in node.keywords}
+                self.assertLessEqual(found, keywords.get(node.func.id, set()), (name, node.lineno))
+        self.assertEqual(len(lambdas), len(set(lambdas)))
+
+
 class NamesTest(unittest.TestCase):
     def test_l8_python_names(self):
         for path in sources():

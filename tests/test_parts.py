@@ -243,8 +243,8 @@ class RankTest(unittest.TestCase):
         source = random.Random(5)
         seen = {}
         asked = 0
-        while asked < 120:
-            groups = some_groups(source, source.randint(1, 4))
+        while asked < 160:
+            groups = some_groups(source, source.choice((1, 2, 3, 4, 4)))
             hold = parted_hold(source, groups, most_bands=2, cap=source.randint(0, 2), load=source.randint(0, 1))
             state = some_state(source, hold)
             try:
@@ -255,7 +255,7 @@ class RankTest(unittest.TestCase):
             self.assertEqual(rank_apart(hold, state), wanted, told(hold))
             key = (len(groups), wanted is None)
             seen[key] = seen.get(key, 0) + 1
-        for key in [(many, kept) for many in (1, 2, 3) for kept in (True, False)]:
+        for key in [(many, kept) for many in (1, 2, 3, 4) for kept in (True, False)]:
             self.assertGreater(seen[key], 2, seen)
 
     def test_one_part_may_share_all(self):
